@@ -1,0 +1,41 @@
+"""The names and arguments of the interface, as they stand in the document."""
+
+import inspect
+import unittest
+
+from yesorno import problems, reading, words
+
+
+def arguments(thing):
+    return list(inspect.signature(thing).parameters)
+
+
+class Interface(unittest.TestCase):
+    def test_problems(self):
+        problem = problems.Problem()
+        self.assertEqual(arguments(problems.Problem), [])
+        self.assertEqual(arguments(problem.add_term), ["name", "parts"])
+        self.assertEqual(arguments(problem.add_plain), ["name"])
+        self.assertEqual(arguments(problem.add_same), ["one", "other"])
+        self.assertEqual(arguments(problem.add_row), ["parts"])
+        self.assertEqual(arguments(problems.is_name), ["word"])
+
+    def test_words(self):
+        self.assertEqual(arguments(words.shown_term), ["problem", "number"])
+        self.assertEqual(arguments(words.shown_part), ["problem", "part"])
+        self.assertEqual(arguments(words.written), ["problem"])
+
+    def test_reading(self):
+        self.assertEqual(arguments(reading.read), ["text"])
+
+    def test_kinds(self):
+        problem = problems.Problem()
+        told = [problem.add_term("a", []), problem.add_plain("p"), problem.add_same(0, 0), problem.add_row([1])]
+        self.assertEqual([type(number) for number in told], [int] * 4)
+        texts = [words.shown_term(problem, 0), words.shown_part(problem, -1), words.written(problem)]
+        self.assertEqual([type(text) for text in texts], [str] * 3)
+        self.assertIs(type(reading.read("p\n")), problems.Problem)
+
+
+if __name__ == "__main__":
+    unittest.main()

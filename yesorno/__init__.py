@@ -1,0 +1,1 @@
+"""Choices, equalities among functions, and papers that refute."""
