@@ -22,6 +22,7 @@ LEFT_OUT = set("""register mro elements open input version_info with_traceback a
     hasattr help id importlib license locals methodcaller os quit setattr super type vars sys""".split())
 WORDS = """type typing typing_extensions enum Enum IntEnum StrEnum Flag IntFlag Generic Protocol ABC ABCMeta
     namedtuple NamedTuple TypedDict TYPE_CHECKING abstractmethod""".split()
+WALKERS = ("list", "tuple", "dict", "sorted", "sum", "any", "all", "enumerate", "zip", "min", "max")
 UNDERSCORED = ("__init__", "__eq__", "__repr__", "__str__", "__len__")
 NODES = (ast.Module, ast.FunctionDef, ast.ClassDef, ast.ImportFrom, ast.alias, ast.arguments, ast.arg,
          ast.Assign, ast.AugAssign, ast.If, ast.While, ast.For, ast.Return, ast.Break, ast.Continue, ast.Pass,
@@ -147,6 +148,61 @@ class Files(unittest.TestCase):
             for node in nodes(path, ast.Attribute):
                 self.assertIn(node.attr, METHODS | methods | values, path)
                 self.assertNotIn(node.attr, LEFT_OUT, path)
+
+    def test_names_of_imports_and_classes_are_kept_free(self):
+        for path in FILES:
+            taken = {node.name for node in nodes(path, ast.ClassDef)}
+            for node in nodes(path, ast.ImportFrom):
+                taken.update(alias.asname or alias.name for alias in node.names)
+            bound = [node.id for node in nodes(path, ast.Name) if isinstance(node.ctx, ast.Store)]
+            bound += [node.arg for node in nodes(path, ast.arg)]
+            bound += [node.name for node in nodes(path, ast.FunctionDef)]
+            self.assertEqual(taken & set(bound), set(), path)
+
+    def test_names_of_a_files_top(self):
+        for path in FILES:
+            bound = []
+            for node in tree_of(path).body:
+                self.assertIsInstance(node, (ast.Expr, ast.ImportFrom, ast.FunctionDef, ast.ClassDef, ast.Assign))
+                if isinstance(node, ast.Expr):
+                    self.assertIsInstance(node.value, ast.Constant, path)
+                if isinstance(node, (ast.FunctionDef, ast.ClassDef)):
+                    bound.append(node.name)
+                if isinstance(node, ast.Assign):
+                    bound.append(node.targets[0].id)
+                    self.assertIsInstance(node.value, (ast.Constant, ast.Tuple, ast.Dict), path)
+            self.assertEqual(len(bound), len(set(bound)), path)
+
+    def test_what_is_walked_on_the_spot(self):
+        for path in FILES:
+            fine = set()
+            for node in ast.walk(tree_of(path)):
+                walked = []
+                if isinstance(node, (ast.For, ast.comprehension)):
+                    walked = [node.iter]
+                if isinstance(node, ast.Call) and isinstance(node.func, ast.Name) and node.func.id in WALKERS:
+                    walked = node.args[:2] if node.func.id == "zip" else node.args[:1]
+                fine.update((one.lineno, one.col_offset) for one in walked)
+            for node in nodes(path, ast.Call):
+                name = getattr(node.func, "id", None) or getattr(node.func, "attr", None)
+                if name in ("zip", "enumerate", "reversed", "range", "items", "keys", "values"):
+                    self.assertIn((node.lineno, node.col_offset), fine, (path, node.lineno))
+
+    def test_other_forms(self):
+        for path in FILES:
+            for node in nodes(path, ast.Compare):
+                for sign, side in zip(node.ops, node.comparators):
+                    if isinstance(sign, (ast.Is, ast.IsNot)):
+                        self.assertIsInstance(side, ast.Constant, path)
+            for node in nodes(path, ast.BinOp):
+                self.assertNotIsInstance(node.op, (ast.Pow, ast.Mod), path)
+            for node in nodes(path, ast.Name):
+                self.assertNotIn(node.id, ("set", "frozenset"), path)
+            for node in nodes(path, (ast.Assign, ast.AugAssign)):
+                for target in node.targets if isinstance(node, ast.Assign) else [node.target]:
+                    self.assertIsInstance(target, (ast.Name, ast.Attribute, ast.Subscript), path)
+            for node in nodes(path, ast.keyword):
+                self.assertIn(node.arg, ("key", "default", "start"), path)
 
 
 if __name__ == "__main__":

@@ -3,7 +3,7 @@
 import inspect
 import unittest
 
-from yesorno import problems, reading, words
+from yesorno import joins, lines, problems, reading, units, ways, words
 
 
 def arguments(thing):
@@ -27,6 +27,20 @@ class Interface(unittest.TestCase):
 
     def test_reading(self):
         self.assertEqual(arguments(reading.read), ["text"])
+
+    def test_joins_and_ways(self):
+        self.assertEqual(arguments(joins.links), ["terms", "given"])
+        self.assertEqual(arguments(joins.joined), ["links", "one", "other"])
+        self.assertEqual(arguments(joins.heads), ["many", "links"])
+        self.assertEqual(arguments(ways.ways), ["terms", "links", "one", "other"])
+
+    def test_units(self):
+        self.assertEqual(arguments(units.grown), ["rows", "trail"])
+        self.assertEqual(arguments(units.levels), ["trail"])
+
+    def test_lines(self):
+        self.assertEqual(arguments(lines.is_learnt), ["rows", "parts", "hints"])
+        self.assertEqual(arguments(lines.is_equal), ["problem", "parts", "links"])
 
     def test_kinds(self):
         problem = problems.Problem()
