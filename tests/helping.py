@@ -5,6 +5,7 @@ import string
 
 from yesorno.errors import ChoiceError
 from yesorno.problems import Problem
+from yesorno.reading import read
 
 KEPT = ("or", "and", "not", "never", "always", "then", "as", "unlike")
 
@@ -84,3 +85,114 @@ def random_terms(chance, many, names="abcfg"):
 
 def random_pairs(chance, many, terms):
     return [(chance.randrange(terms), chance.randrange(terms)) for count in range(many)]
+
+
+def learnt_by_hand(rows, parts, hints):
+    """What 19 says, word by word."""
+    held = {-part for part in parts}
+    for place, hint in enumerate(hints):
+        if hint >= len(rows):
+            return False
+        row = set(rows[hint])
+        left = [part for part in row if -part not in held]
+        if place == len(hints) - 1:
+            return left == []
+        if len(left) != 1 or left[0] in held:
+            return False
+        held.add(left[0])
+    return False
+
+
+def equal_by_hand(problem, parts, links):
+    """What 20 says, word by word."""
+    terms, atoms = problem.terms, problem.atoms
+    for place, (one, other, how) in enumerate(links):
+        if one >= len(terms) or other >= len(terms):
+            return False
+        if how > 0:
+            if how > len(atoms) or atoms[how - 1] not in (("same", one, other), ("same", other, one)):
+                return False
+            if -how not in parts:
+                return False
+        else:
+            ahead = components([link[:2] for link in links[:place]], len(terms))
+            if [terms[one][0]] + [ahead[part] for part in terms[one][1]] != \
+                    [terms[other][0]] + [ahead[part] for part in terms[other][1]]:
+                return False
+    whole = components([link[:2] for link in links], len(terms))
+    wanted = [atoms[part - 1] for part in parts if part > 0 and atoms[part - 1][0] == "same"]
+    return any(whole[one] == whole[other] for same, one, other in wanted)
+
+
+def fault_by_hand(problem, paper):
+    """What 21 says, of lines of the right form."""
+    rows = list(problem.rows)
+    for place, (word, parts, why) in enumerate(paper):
+        right = learnt_by_hand(rows, parts, why) if word == "learnt" else equal_by_hand(problem, parts, why)
+        if not right:
+            return place
+        rows.append(parts)
+    return None if paper and paper[-1][1] == () else len(paper)
+
+
+def clashing_atoms(problem, held):
+    """The numbers of the atoms of two terms that are held to be other ones, but are the same."""
+    pairs = [problem.atoms[part - 1][1:] for part in held if part > 0 and problem.atoms[part - 1][0] == "same"]
+    same = classes(problem.terms, pairs)
+    denied = sorted(-part for part in held if part < 0)
+    return [atom for atom in denied if problem.atoms[atom - 1][0] == "same"
+            and same[problem.atoms[atom - 1][1]] == same[problem.atoms[atom - 1][2]]]
+
+
+def all_held(problem):
+    """All tuples with a part for each atom by which each row has a held part and there is no clash."""
+    found = []
+    for signs in itertools.product((1, -1), repeat=len(problem.atoms)):
+        held = tuple(sign * atom for sign, atom in zip(signs, range(1, len(signs) + 1)))
+        if all(set(row) & set(held) for row in problem.rows) and not clashing_atoms(problem, held):
+            found.append(held)
+    return found
+
+
+def random_problem(chance, terms=5, atoms=5, rows=9, longest=3, plain=2, shortest=1):
+    """A problem of about so many atoms, of which some are plain, with rows of chance."""
+    problem = Problem()
+    for name, parts in random_terms(chance, terms, "abf") if terms else []:
+        problem.add_term(name, parts)
+    for count in range(atoms):
+        if terms and count >= plain:
+            problem.add_same(chance.randrange(terms), chance.randrange(terms))
+        else:
+            problem.add_plain("p" + string.ascii_lowercase[count])
+    for count in range(rows):
+        parts = [chance.choice((1, -1)) * chance.randrange(1, len(problem.atoms) + 1)
+                 for part in range(chance.randrange(shortest, longest + 1))]
+        problem.add_row(parts)
+    return problem
+
+
+def holes(many, more):
+    """More things than holes, many of these: each thing in a hole, no two in one. There is no choice."""
+    problem = Problem()
+    inside = {}
+    for thing, hole in itertools.product(range(more), range(many)):
+        inside[thing, hole] = problem.add_plain("x" + string.ascii_lowercase[thing] + string.ascii_lowercase[hole])
+    for thing in range(more):
+        problem.add_row([inside[thing, hole] for hole in range(many)])
+    for hole in range(many):
+        for one, other in itertools.combinations(range(more), 2):
+            problem.add_row([-inside[one, hole], -inside[other, hole]])
+    return problem
+
+
+def diamonds(many):
+    """From each corner to the next one there are two ways, and yet the ends are held to be other ones."""
+    rows = []
+    for place in range(many):
+        one, up, down, other = (letter + string.ascii_lowercase[place + later] for letter, later in
+                                (("c", 0), ("u", 0), ("d", 0), ("c", 1)))
+        for left in (f"{one} = {up}", f"{up} = {other}"):
+            for right in (f"{one} = {down}", f"{down} = {other}"):
+                rows.append(f"{left} or {right}\n")
+    last = string.ascii_lowercase[many]
+    return read("".join(rows) + f"not ca = c{last}\n")

@@ -3,11 +3,15 @@
 import inspect
 import unittest
 
-from yesorno import joins, lines, problems, reading, units, ways, words
+from yesorno import clashes, joins, learning, lines, papers, problems, reading, search, units, ways, words
 
 
 def arguments(thing):
     return list(inspect.signature(thing).parameters)
+
+
+def most(thing):
+    return inspect.signature(thing).parameters["most"].default
 
 
 class Interface(unittest.TestCase):
@@ -41,6 +45,18 @@ class Interface(unittest.TestCase):
     def test_lines(self):
         self.assertEqual(arguments(lines.is_learnt), ["rows", "parts", "hints"])
         self.assertEqual(arguments(lines.is_equal), ["problem", "parts", "links"])
+
+    def test_papers(self):
+        self.assertEqual(arguments(papers.fault), ["problem", "paper"])
+        self.assertEqual(arguments(papers.lets_by), ["problem", "paper"])
+
+    def test_learning(self):
+        self.assertEqual(arguments(learning.learnt), ["rows", "trail", "fails"])
+
+    def test_clashes_and_search(self):
+        self.assertEqual(arguments(clashes.clash), ["problem", "held"])
+        self.assertEqual(arguments(search.search), ["problem", "most"])
+        self.assertEqual(most(search.search), 2000)
 
     def test_kinds(self):
         problem = problems.Problem()

@@ -5,47 +5,10 @@ import itertools
 import random
 import unittest
 
-from helping import components, fields, random_terms
+from helping import equal_by_hand, fields, learnt_by_hand, random_terms
 from yesorno.lines import is_equal, is_learnt
 from yesorno.problems import Problem
 from yesorno.reading import read
-
-
-def learnt_by_hand(rows, parts, hints):
-    """What 19 says, word by word."""
-    held = {-part for part in parts}
-    for place, hint in enumerate(hints):
-        if hint >= len(rows):
-            return False
-        row = set(rows[hint])
-        left = [part for part in row if -part not in held]
-        if place == len(hints) - 1:
-            return left == []
-        if len(left) != 1 or left[0] in held:
-            return False
-        held.add(left[0])
-    return False
-
-
-def equal_by_hand(problem, parts, links):
-    """What 20 says, word by word."""
-    terms, atoms = problem.terms, problem.atoms
-    for place, (one, other, how) in enumerate(links):
-        if one >= len(terms) or other >= len(terms):
-            return False
-        if how > 0:
-            if how > len(atoms) or atoms[how - 1] not in (("same", one, other), ("same", other, one)):
-                return False
-            if -how not in parts:
-                return False
-        else:
-            ahead = components([link[:2] for link in links[:place]], len(terms))
-            if [terms[one][0]] + [ahead[part] for part in terms[one][1]] != \
-                    [terms[other][0]] + [ahead[part] for part in terms[other][1]]:
-                return False
-    whole = components([link[:2] for link in links], len(terms))
-    wanted = [atoms[part - 1] for part in parts if part > 0 and atoms[part - 1][0] == "same"]
-    return any(whole[one] == whole[other] for same, one, other in wanted)
 
 
 class Learnt(unittest.TestCase):
