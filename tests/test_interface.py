@@ -3,7 +3,8 @@
 import inspect
 import unittest
 
-from yesorno import clashes, joins, learning, lines, papers, problems, reading, search, units, ways, words
+from yesorno import answers, choices, clashes, formulas, joins, learning, lines, papers, problems, reading, search
+from yesorno import understood, units, ways, words
 
 
 def arguments(thing):
@@ -57,6 +58,18 @@ class Interface(unittest.TestCase):
         self.assertEqual(arguments(clashes.clash), ["problem", "held"])
         self.assertEqual(arguments(search.search), ["problem", "most"])
         self.assertEqual(most(search.search), 2000)
+
+    def test_choices_and_answers(self):
+        self.assertEqual(arguments(choices.Choice), ["plain", "tables"])
+        self.assertEqual(arguments(choices.chosen), ["problem", "held"])
+        self.assertEqual(arguments(choices.valued), ["problem", "choice"])
+        self.assertEqual(arguments(choices.tried), ["problem", "choice"])
+        self.assertEqual(arguments(answers.answer), ["problem", "most"])
+        self.assertEqual(most(answers.answer), 2000)
+
+    def test_formulas(self):
+        self.assertEqual(arguments(formulas.shown), ["formulas"])
+        self.assertEqual(arguments(understood.understood), ["text"])
 
     def test_kinds(self):
         problem = problems.Problem()

@@ -39,12 +39,15 @@ class Cursor:
         # Asked ahead of going in, so that no text makes the calls deeper than this.
         if brackets == 0:
             raise NoProblem(f"brackets more than {MOST_BRACKETS} deep")
-        trees = [self.take_tree(brackets - 1)]
+        return (word, self.take_trees(brackets - 1))
+
+    def take_trees(self, brackets):
+        trees = [self.take_tree(brackets)]
         while self.takes(", "):
-            trees.append(self.take_tree(brackets - 1))
+            trees.append(self.take_tree(brackets))
         if not self.takes(")"):
             raise NoProblem("a bracket is not closed")
-        return (word, tuple(trees))
+        return tuple(trees)
 
 
 def formed_tree(text):
@@ -77,12 +80,12 @@ def formed_row(text):
     return [formed_part(part) for part in text.split(" or ")]
 
 
-def formed_rows(text):
+def text_rows(text):
     if text == "":
         return []
     if not text.endswith("\n"):
         raise NoProblem("the last line end is left out")
-    return [formed_row(row) for row in text[:-1].split("\n")]
+    return text[:-1].split("\n")
 
 
 def add_tree(problem, tree):
@@ -104,7 +107,7 @@ def add_part(problem, part):
 
 
 def read(text):
-    rows = formed_rows(text)
+    rows = [formed_row(row) for row in text_rows(text)]
     problem = Problem()
     for row in rows:
         problem.add_row([add_part(problem, part) for part in row])
