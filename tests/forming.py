@@ -121,3 +121,27 @@ def random_formula(chance, deep, names="abfg", plain="pqr"):
     if kind == "not":
         return ("not", random_formula(chance, deep - 1, names, plain))
     return (kind, random_formula(chance, deep - 1, names, plain), random_formula(chance, deep - 1, names, plain))
+
+
+def tree_value(tree, choice):
+    sign = (tree[0], tuple(tree_value(part, choice) for part in tree[1]))
+    return choice.tables[sign] if sign in choice.tables else 0
+
+
+def holds(formula, choice):
+    """Whether a formula holds by a choice, as 29 and 26 have it."""
+    kind = formula[0]
+    if kind in ("always", "never"):
+        return kind == "always"
+    if kind == "plain":
+        return formula[1] in choice.plain and choice.plain[formula[1]]
+    values = [tree_value(tree, choice) for tree in inner_trees(formula)]
+    if kind == "same":
+        return values[0] == values[1]
+    if kind == "unlike":
+        return len(set(values)) == len(values)
+    truths = [holds(inner, choice) for inner in inner_formulas(formula)]
+    if kind == "not":
+        return not truths[0]
+    return {"and": truths[0] and truths[-1], "or": truths[0] or truths[-1],
+            "then": truths[-1] or not truths[0], "as": truths[0] == truths[-1]}[kind]

@@ -3,8 +3,8 @@
 import inspect
 import unittest
 
-from yesorno import answers, choices, clashes, formulas, joins, learning, lines, papers, problems, reading, search
-from yesorno import understood, units, ways, words
+from yesorno import answers, asked, choices, clashes, formulas, joins, learning, lines, named, papers, problems
+from yesorno import reading, scripts, search, trims, understood, units, ways, words
 
 
 def arguments(thing):
@@ -70,6 +70,16 @@ class Interface(unittest.TestCase):
     def test_formulas(self):
         self.assertEqual(arguments(formulas.shown), ["formulas"])
         self.assertEqual(arguments(understood.understood), ["text"])
+        self.assertEqual(arguments(named.named), ["formulas"])
+        self.assertEqual(arguments(asked.asked), ["text", "most"])
+        self.assertEqual(most(asked.asked), 2000)
+
+    def test_trims_and_scripts(self):
+        self.assertEqual(arguments(trims.needed), ["problem", "paper"])
+        self.assertEqual(arguments(trims.part_of), ["problem", "numbers"])
+        self.assertEqual(arguments(trims.trimmed), ["problem", "paper"])
+        self.assertEqual(arguments(scripts.shown_paper), ["paper"])
+        self.assertEqual(arguments(scripts.read_paper), ["text"])
 
     def test_kinds(self):
         problem = problems.Problem()
