@@ -3,8 +3,8 @@
 import inspect
 import unittest
 
-from yesorno import answers, asked, choices, clashes, formulas, joins, learning, lines, named, papers, problems
-from yesorno import reading, scripts, search, trims, understood, units, ways, words
+from yesorno import answers, asked, choices, clashes, cores, every, follows, formulas, joins, learning, lines, named
+from yesorno import papers, problems, reading, scripts, search, told, trims, understood, units, ways, words
 
 
 def arguments(thing):
@@ -81,10 +81,23 @@ class Interface(unittest.TestCase):
         self.assertEqual(arguments(scripts.shown_paper), ["paper"])
         self.assertEqual(arguments(scripts.read_paper), ["text"])
 
+    def test_told(self):
+        self.assertEqual(arguments(told.told), ["text", "most"])
+        self.assertEqual(arguments(told.agreed), ["text", "paper_text"])
+        self.assertEqual(most(told.told), 2000)
+
+    def test_cores_every_and_follows(self):
+        self.assertEqual(arguments(cores.core), ["problem", "most"])
+        self.assertEqual(arguments(every.every), ["problem", "atoms", "most"])
+        self.assertEqual(arguments(follows.follows), ["problem", "parts", "most"])
+        self.assertEqual(arguments(follows.forced), ["problem", "most"])
+        for thing in (cores.core, every.every, follows.follows, follows.forced):
+            self.assertEqual(most(thing), 2000)
+
     def test_kinds(self):
         problem = problems.Problem()
-        told = [problem.add_term("a", []), problem.add_plain("p"), problem.add_same(0, 0), problem.add_row([1])]
-        self.assertEqual([type(number) for number in told], [int] * 4)
+        numbers = [problem.add_term("a", []), problem.add_plain("p"), problem.add_same(0, 0), problem.add_row([1])]
+        self.assertEqual([type(number) for number in numbers], [int] * 4)
         texts = [words.shown_term(problem, 0), words.shown_part(problem, -1), words.written(problem)]
         self.assertEqual([type(text) for text in texts], [str] * 3)
         self.assertIs(type(reading.read("p\n")), problems.Problem)
