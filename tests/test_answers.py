@@ -40,7 +40,8 @@ class Answer(unittest.TestCase):
         self.assertEqual(self.check(Problem())[0], "yes")
 
     def test_no(self):
-        for problem in (read("never\n"), read("p\nnot p\n"), read("a = b\nnot f(a) = f(b)\n"), holes(2, 3), diamonds(2)):
+        for problem in (read("never\n"), read("p\nnot p\n"), read("a = b\nnot f(a) = f(b)\n"), holes(2, 3),
+                        diamonds(2)):
             self.assertEqual(self.check(problem)[0], "no")
 
     def test_by_chance(self):

@@ -3,8 +3,7 @@
 import random
 import unittest
 
-from forming import holds, plain_names, random_formula
-from helping import names, refusal
+from helping import holds, names, plain_names, random_formula, refusal
 from yesorno.answers import answer
 from yesorno.asked import asked
 from yesorno.choices import Choice

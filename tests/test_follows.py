@@ -253,7 +253,8 @@ class Forced(unittest.TestCase):
         chance = random.Random(40)
         seen = 0
         for count in range(400):
-            problem = random_problem(chance, terms=chance.choice((0, 4)), atoms=5, rows=chance.randrange(10), shortest=2)
+            problem = random_problem(chance, terms=chance.choice((0, 4)), atoms=5, rows=chance.randrange(10),
+                                     shortest=2)
             held = all_held(problem)
             if not held:
                 self.assertEqual(refusal(forced, problem), NoChoice)

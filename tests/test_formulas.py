@@ -4,7 +4,7 @@ import copy
 import random
 import unittest
 
-from forming import random_formula, readings
+from helping import random_formula, readings
 from yesorno.formulas import shown
 
 P, Q, R = ("plain", "p"), ("plain", "q"), ("plain", "r")

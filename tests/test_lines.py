@@ -113,7 +113,8 @@ class Learnt(unittest.TestCase):
         chance = random.Random(19)
         seen = {True: 0, False: 0}
         for count in range(4000):
-            rows = [tuple(chance.choice((1, -1)) * atom for atom in chance.sample(range(1, 6), chance.choice((1, 2, 2))))
+            rows = [tuple(chance.choice((1, -1)) * atom
+                          for atom in chance.sample(range(1, 6), chance.choice((1, 2, 2))))
                     for row in range(9)]
             parts = tuple(chance.choice((1, -1)) * atom for atom in chance.sample(range(1, 6), chance.randrange(4)))
             hints = tuple(chance.randrange(9) for hint in range(chance.randrange(1, 4)))

@@ -5,8 +5,7 @@ import itertools
 import random
 import unittest
 
-from forming import holds, plain_names, random_formula
-from helping import KEPT, all_held, fields, names, refusal
+from helping import KEPT, all_held, fields, holds, names, plain_names, random_formula, refusal
 from yesorno.choices import chosen
 from yesorno.errors import BadName, TooMany
 from yesorno.named import named

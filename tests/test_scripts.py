@@ -32,8 +32,9 @@ PAIRS = [
 
 NUMBER = "(?:0|[1-9][0-9]{0,8})"
 PART = "-?[1-9][0-9]{0,8}"
+LINK = f"{NUMBER}-{NUMBER}-{NUMBER}"
 ROW = re.compile(f"learnt (none|{PART}(?: {PART})*) by (none|{NUMBER}(?: {NUMBER})*)|"
-                 f"equal (none|{PART}(?: {PART})*) by (none|{NUMBER}-{NUMBER}-{NUMBER}(?: {NUMBER}-{NUMBER}-{NUMBER})*)")
+                 f"equal (none|{PART}(?: {PART})*) by (none|{LINK}(?: {LINK})*)")
 
 
 def is_paper(text):
@@ -77,7 +78,8 @@ class Read(unittest.TestCase):
     def test_noughts(self):
         for row in ("learnt 0 by 1", "learnt -0 by 1", "learnt 1 0 by 1", "learnt 1 -0 by 1", "equal 0 by none",
                     "equal -0 by none", "learnt 01 by 1", "learnt -01 by 1", "learnt 1 by 00", "learnt 1 by 01",
-                    "learnt 1 by 0 00", "equal 1 by 00-1-2", "equal 1 by 0-01-2", "equal 1 by 0-1-02", "learnt 00 by 1"):
+                    "learnt 1 by 0 00", "equal 1 by 00-1-2", "equal 1 by 0-01-2", "equal 1 by 0-1-02",
+                    "learnt 00 by 1"):
             self.refuse(row)
 
     def test_ten_figures(self):
@@ -94,7 +96,8 @@ class Read(unittest.TestCase):
 
     def test_links(self):
         for row in ("equal 1 by 0-1", "equal 1 by 0-1-2-3", "equal 1 by 0", "equal 1 by 0 1 2", "equal 1 by -",
-                    "equal 1 by --", "equal 1 by 0-1-", "equal 1 by -1-2", "equal 1 by 0-1-2 ", "equal 1 by 0-1-2, 1-2-3",
+                    "equal 1 by --", "equal 1 by 0-1-", "equal 1 by -1-2", "equal 1 by 0-1-2 ",
+                    "equal 1 by 0-1-2, 1-2-3",
                     "equal 1 by 0-1-2 none", "learnt 1 by 0-1-2", "equal 1 by 0 -1-2", "equal 1 by (0, 1, 2)"):
             self.refuse(row)
 

@@ -5,7 +5,8 @@ import itertools
 import random
 import unittest
 
-from helping import all_held, clashing_atoms, diamonds, fault_by_hand, fields, holes, problem_of, random_problem, refusal
+from helping import (all_held, clashing_atoms, diamonds, fault_by_hand, fields, holes, problem_of, random_problem,
+                     refusal)
 from yesorno.clashes import clash
 from yesorno.errors import ChoiceError, TooLong
 from yesorno.papers import lets_by

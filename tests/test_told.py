@@ -123,7 +123,8 @@ class Agreed(unittest.TestCase):
             self.assertIs(agreed(written(problem), shown_paper(paper[:-1])), False)
 
     def test_refused(self):
-        for text, error in (("p", NoProblem), ("or\n", BadName), ("a = f(a, a, a, a)\n", BadTerm), ("p\n" * 201, TooMany)):
+        for text, error in (("p", NoProblem), ("or\n", BadName), ("a = f(a, a, a, a)\n", BadTerm),
+                            ("p\n" * 201, TooMany)):
             for paper in (self.paper, "", "learnt", "learnt 0 by 1\n"):
                 self.assertEqual(refusal(agreed, text, paper), error)
         for paper in ("learnt none by 0", "learnt 0 by 1\n", "\n", "no\nlearnt none by 0\n"):

@@ -4,8 +4,7 @@ import itertools
 import random
 import unittest
 
-from forming import is_named, random_formula, readings, words
-from helping import KEPT, refusal
+from helping import KEPT, is_named, random_formula, readings, refusal, words
 from yesorno.errors import BadName, NoProblem
 from yesorno.formulas import shown
 from yesorno.understood import understood
@@ -97,7 +96,8 @@ class Form(unittest.TestCase):
                     "f( a) = a", "f(a ) = a", "f (a) = a", "f(a)) = a", "f((a)) = a", "f(a = a", "f(a, ) = a",
                     "f(a)(b) = a", "(a) = b", "f(not a) = b", "f(a = b) = c", "unlike(a, b) ", "unlike (a, b)",
                     "unlike(a,b)", "unlike(a, b", "unlike(a, b))", "unlike()", "unlike(a, b, )", "unlike(a = b, c)",
-                    "unlike(p and q, a)", "(p AND q)", "(p & q)", "(p if q)", "(and)", "( and )", "(p and )", "( and p)",
+                    "unlike(p and q, a)", "(p AND q)", "(p & q)", "(p if q)", "(and)", "( and )", "(p and )",
+                    "( and p)",
                     "p\tq", "\tp", "a\t=\tb", "P", "p1", "a_b", "p.", "p,", "p;", "(p,q)", "not\tp"):
             self.refuse(row)
 
